@@ -1,0 +1,1 @@
+"""Kimariji: snatched verses, and the syllable from which a touch is safe."""

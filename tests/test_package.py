@@ -1,0 +1,102 @@
+"""Tests of the package as a whole: its interface, and the rules that its text must keep to."""
+
+import ast
+import builtins
+import inspect
+import re
+import unittest
+from pathlib import Path
+
+from kimariji import books, parts, rivals
+
+FOLDER = Path(__file__).resolve().parent.parent / "kimariji"
+FILES = sorted(FOLDER.glob("**/*.py"))
+
+ARGUMENTS = {
+    parts.part: ["top", "bottom"],
+    parts.plus: ["one", "other"],
+    parts.minus: ["one", "other"],
+    parts.less: ["one", "other"],
+    books.Book: ["verses"],
+    books.Book.many: ["self"],
+    books.Book.verse: ["self", "number"],
+    books.Book.verses: ["self"],
+    books.meeting: ["book", "unread", "heard"],
+    books.goings: ["book", "unread", "heard"],
+    rivals.shared: ["book", "one", "other"],
+    rivals.rivals: ["book", "unread", "verse", "size"],
+    rivals.deciding: ["book", "unread", "verse"],
+    rivals.hurdles: ["book", "unread", "verse"],
+}
+METHODS = {books.Book: ["many", "verse", "verses"]}
+
+# L8, and `super` of L5; nothing among them tells the time, throws a die or reads a file.
+BUILTINS = (
+    "len range enumerate zip min max sum abs sorted reversed int str bool bytes list tuple dict set frozenset "
+    "isinstance ord repr any all divmod iter next property staticmethod classmethod super Exception ValueError "
+    "TypeError KeyError IndexError LookupError ZeroDivisionError ArithmeticError OverflowError RuntimeError "
+    "NotImplementedError AttributeError StopIteration NotImplemented"
+).split()
+BARRED_WORDS = (
+    "type typing typing_extensions enum Enum IntEnum StrEnum Flag IntFlag Generic Protocol ABC ABCMeta namedtuple "
+    "NamedTuple TypedDict TYPE_CHECKING abstractmethod"
+).split()
+
+
+class TestInterface(unittest.TestCase):
+    def test_arguments(self):
+        for asked, names in ARGUMENTS.items():
+            self.assertEqual(list(inspect.signature(asked).parameters), names, asked)
+
+    def test_methods_stand_in_the_class_itself(self):
+        for owner, names in METHODS.items():
+            for name in names:
+                self.assertIn(name, vars(owner))
+
+
+class TestText(unittest.TestCase):
+    def test_the_folder_has_plain_files_alone(self):
+        self.assertTrue(FILES)
+        for path in FOLDER.iterdir():
+            if path.name != "__pycache__":
+                self.assertRegex(path.name, r"\A(__init__|__main__|[a-z][a-z0-9_]*)\.py\Z")
+
+    def test_sizes_and_signs(self):
+        for path in FILES:
+            text = path.read_text(encoding="utf-8")
+            self.assertLessEqual(len(text.splitlines()), 400, path)
+            self.assertLessEqual(max([len(line) for line in text.splitlines()], default=0), 120, path)
+            self.assertRegex(text, r"\A[ -~\n]*\Z", path)
+            for node in ast.walk(ast.parse(text)):
+                if isinstance(node, ast.FunctionDef):
+                    self.assertLessEqual(node.end_lineno - node.lineno + 1, 40, (path, node.name))
+
+    def test_words(self):
+        for path in FILES:
+            words = re.findall(r"\w+", path.read_text())
+            self.assertEqual([word for word in words if word in BARRED_WORDS], [], path)
+
+    def test_imports_are_of_the_package_alone(self):
+        for path in FILES:
+            for node in ast.walk(ast.parse(path.read_text())):
+                self.assertNotIsInstance(node, ast.Import, path)
+                if isinstance(node, ast.ImportFrom):
+                    self.assertEqual(node.level, 0, path)
+                    self.assertTrue(node.module.startswith("kimariji."), (path, node.module))
+
+    def test_builtins(self):
+        for path in FILES:
+            for node in ast.walk(ast.parse(path.read_text())):
+                if isinstance(node, ast.Name) and hasattr(builtins, node.id):
+                    self.assertIn(node.id, BUILTINS, path)
+
+    def test_values_are_whole(self):
+        for path in FILES:
+            for node in ast.walk(ast.parse(path.read_text())):
+                self.assertNotIsInstance(node, ast.Div, path)
+                if isinstance(node, ast.Constant):
+                    self.assertNotIsInstance(node.value, (float, complex), path)
+
+
+if __name__ == "__main__":
+    unittest.main()
