@@ -7,7 +7,7 @@ import re
 import unittest
 from pathlib import Path
 
-from kimariji import books, parts, rivals
+from kimariji import books, deals, hearing, parts, plans, rivals, slowly
 
 FOLDER = Path(__file__).resolve().parent.parent / "kimariji"
 FILES = sorted(FOLDER.glob("**/*.py"))
@@ -27,8 +27,32 @@ ARGUMENTS = {
     rivals.rivals: ["book", "unread", "verse", "size"],
     rivals.deciding: ["book", "unread", "verse"],
     rivals.hurdles: ["book", "unread", "verse"],
+    deals.Deal: ["book", "zero", "one"],
+    deals.Deal.book: ["self"],
+    deals.Deal.rows: ["self", "field"],
+    deals.Deal.cards: ["self", "field"],
+    deals.Deal.where: ["self", "verse"],
+    deals.Deal.swept: ["self", "sweep"],
+    deals.Deal.cover: ["self", "verses"],
+    deals.Deal.without: ["self", "verse"],
+    deals.Deal.sent: ["self", "verse", "row"],
+    deals.Deal.moved: ["self", "verse", "row", "place"],
+    hearing.is_fault: ["deal", "verse", "sweep"],
+    hearing.is_taken: ["deal", "verse", "sweep"],
+    hearing.faultless: ["deal", "unread", "heard"],
+    hearing.witness: ["deal", "unread", "heard", "sweep"],
+    hearing.sure: ["deal", "unread", "heard"],
+    hearing.moment: ["deal", "unread", "verse"],
+    plans.judged: ["deal", "unread", "plan"],
+    plans.taken_at: ["deal", "unread", "plan", "verse"],
+    plans.earliest: ["deal", "unread"],
+    plans.joined: ["deal", "unread", "one", "other"],
+    slowly.slow: ["deal", "unread"],
 }
-METHODS = {books.Book: ["many", "verse", "verses"]}
+METHODS = {
+    books.Book: ["many", "verse", "verses"],
+    deals.Deal: ["book", "rows", "cards", "where", "swept", "cover", "without", "sent", "moved"],
+}
 
 # L8, and `super` of L5; nothing among them tells the time, throws a die or reads a file.
 BUILTINS = (
@@ -89,6 +113,29 @@ class TestText(unittest.TestCase):
             for node in ast.walk(ast.parse(path.read_text())):
                 if isinstance(node, ast.Name) and hasattr(builtins, node.id):
                     self.assertIn(node.id, BUILTINS, path)
+
+    def test_no_name_is_a_method_and_an_attribute(self):
+        methods, attributes = set(), set()
+        for path in FILES:
+            for node in ast.walk(ast.parse(path.read_text())):
+                if isinstance(node, ast.ClassDef):
+                    methods |= {row.name for row in node.body if isinstance(row, ast.FunctionDef)}
+                if isinstance(node, ast.Attribute) and isinstance(node.ctx, ast.Store):
+                    attributes.add(node.attr)
+        self.assertTrue(methods and attributes)
+        self.assertEqual(methods & attributes, set())
+
+    def test_local_names_are_no_imports_classes_or_builtins(self):
+        for path in FILES:
+            tree = ast.parse(path.read_text())
+            imports = [name.name for row in tree.body if isinstance(row, ast.ImportFrom) for name in row.names]
+            classes = [row.name for row in tree.body if isinstance(row, ast.ClassDef)]
+            for node in ast.walk(tree):
+                bound = [node.id] if isinstance(node, ast.Name) and isinstance(node.ctx, ast.Store) else []
+                bound += [node.arg] if isinstance(node, ast.arg) else []
+                for name in bound:
+                    self.assertNotIn(name, imports + classes + dir(builtins), path)
+                    self.assertFalse(name.startswith("_"), (path, name))
 
     def test_values_are_whole(self):
         for path in FILES:
