@@ -7,7 +7,7 @@ import re
 import unittest
 from pathlib import Path
 
-from kimariji import books, deals, hearing, parts, plans, rivals, slowly
+from kimariji import books, chances, deals, hall, hearing, minutes, parts, plans, rivals, slowly, table
 
 FOLDER = Path(__file__).resolve().parent.parent / "kimariji"
 FILES = sorted(FOLDER.glob("**/*.py"))
@@ -48,10 +48,50 @@ ARGUMENTS = {
     plans.earliest: ["deal", "unread"],
     plans.joined: ["deal", "unread", "one", "other"],
     slowly.slow: ["deal", "unread"],
+    chances.decided_by: ["book", "unread", "verse", "size"],
+    chances.mean_decided: ["book", "unread", "verse"],
+    chances.safe_by: ["deal", "unread", "verse", "size"],
+    chances.mean_safe: ["deal", "unread", "verse"],
+    chances.waiting: ["deal", "unread"],
+    chances.best_gift: ["deal", "unread", "field"],
+    table.Table: ["deal"],
+    table.Table.read: ["self", "verse"],
+    table.Table.touch: ["self", "side", "sweep"],
+    table.Table.send: ["self", "verse", "row"],
+    table.Table.move: ["self", "side", "verse", "row", "place"],
+    table.Table.strike: ["self", "verse"],
+    table.Table.witness: ["self", "sweep"],
+    table.Table.deciding: ["self", "verse"],
+    hall.Hall: [],
+    hall.Hall.shelve: ["self", "name", "verses"],
+    hall.Hall.lay: ["self", "name", "book", "zero", "one"],
+    hall.Hall.read: ["self", "name", "verse"],
+    hall.Hall.touch: ["self", "name", "side", "sweep"],
+    hall.Hall.send: ["self", "name", "verse", "row"],
+    hall.Hall.move: ["self", "name", "side", "verse", "row", "place"],
+    hall.Hall.strike: ["self", "name", "verse"],
+    minutes.book_text: ["book"],
+    minutes.read_book: ["text"],
+    minutes.hall_text: ["hall"],
+    minutes.read_hall: ["text"],
 }
+ARGUMENTS.update({getattr(table.Table, name): ["self"] for name in (
+    "say close hush waive deal unread under heard touches readings score faults due winner free plan twin"
+).split()})
+ARGUMENTS.update({getattr(hall.Hall, name): ["self", "name"] for name in (
+    "say close hush waive fold book table"
+).split()})
+ARGUMENTS.update({getattr(hall.Hall, name): ["self"] for name in "back again deeds books tables twin".split()})
 METHODS = {
     books.Book: ["many", "verse", "verses"],
     deals.Deal: ["book", "rows", "cards", "where", "swept", "cover", "without", "sent", "moved"],
+    table.Table: (
+        "read say touch close hush send waive move strike deal unread under heard touches readings score faults due "
+        "winner free witness deciding plan twin"
+    ).split(),
+    hall.Hall: (
+        "shelve lay read say touch close hush send waive move strike fold back again deeds books tables book table twin"
+    ).split(),
 }
 
 # L8, and `super` of L5; nothing among them tells the time, throws a die or reads a file.
